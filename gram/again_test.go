@@ -9,6 +9,7 @@ import (
 	"accidence/api"
 	"accidence/gram"
 	"accidence/read"
+	"accidence/sample"
 )
 
 // again tells a fault if a grammar, printed, isn't loaded as itself.
@@ -26,7 +27,7 @@ func again(t *testing.T, g api.Grammar) {
 
 // P6.2: whatever is loaded is right, and, printed, is loaded as itself.
 func TestLoadedAgain(t *testing.T) {
-	r := roll(21)
+	r := sample.Roll(21)
 	fine := 0
 	for range 20000 {
 		if g, f := gram.Load(someText(&r, someNames(&r), 0)); f.E == api.OK {
@@ -40,16 +41,16 @@ func TestLoadedAgain(t *testing.T) {
 }
 
 // someGrammar is a right grammar.
-func someGrammar(r *roll) api.Grammar {
+func someGrammar(r *sample.Roll) api.Grammar {
 	g := api.Grammar{Vars: someNames(r)}
 	texts := []string{" ", "%", "a", "a b", "b", "|", "~"}
 	for v := range g.Vars {
-		for i := range 1 + r.of(3) {
+		for i := range 1 + r.Of(3) {
 			right := make([]int, i)
 			for j := range right {
-				right[j] = r.of(len(g.Vars)+len(texts)) - len(texts)
+				right[j] = r.Of(len(g.Vars)+len(texts)) - len(texts)
 			}
-			f := []float64{0, 0, below, 1, -2.5, 0.000001, 999999999.999999, math.NaN(), math.Inf(1), math.Inf(-1)}[r.of(10)]
+			f := []float64{0, 0, below, 1, -2.5, 0.000001, 999999999.999999, math.NaN(), math.Inf(1), math.Inf(-1)}[r.Of(10)]
 			g.Rules = append(g.Rules, weighed(f, v, right...))
 		}
 	}
@@ -75,33 +76,33 @@ func used(g api.Grammar, texts []string) api.Grammar {
 }
 
 // spoil turns something of a grammar, that may be right all the same.
-func spoil(r *roll, g *api.Grammar) {
+func spoil(r *sample.Roll, g *api.Grammar) {
 	symbols := []int{0, 1, 2, 3, 4, 7, -1, -2, -3, -4, -8, math.MaxInt, math.MinInt}
-	rule := &g.Rules[r.of(len(g.Rules))]
-	switch r.of(10) {
+	rule := &g.Rules[r.Of(len(g.Rules))]
+	switch r.Of(10) {
 	case 0:
-		g.Vars[r.of(len(g.Vars))] = r.one("s", "t", "u", "", "_", "9", "a b", "é", "s = ; u", strings.Repeat("n", 24), strings.Repeat("n", 25))
+		g.Vars[r.Of(len(g.Vars))] = r.One("s", "t", "u", "", "_", "9", "a b", "é", "s = ; u", strings.Repeat("n", 24), strings.Repeat("n", 25))
 	case 1:
-		g.Terms = append(g.Terms, r.one("a", "c", "~~", "\x7f"))
+		g.Terms = append(g.Terms, r.One("a", "c", "~~", "\x7f"))
 	case 2:
 		if len(g.Terms) > 0 {
-			g.Terms[r.of(len(g.Terms))] = r.one("a", "c", "", "'", "a'", "a' 'b", "\t", "é", strings.Repeat("q", 16), strings.Repeat("q", 17))
+			g.Terms[r.Of(len(g.Terms))] = r.One("a", "c", "", "'", "a'", "a' 'b", "\t", "é", strings.Repeat("q", 16), strings.Repeat("q", 17))
 		}
 	case 3:
-		rule.Left = symbols[r.of(len(symbols))]
+		rule.Left = symbols[r.Of(len(symbols))]
 	case 4:
-		rule.Right = append(rule.Right, symbols[r.of(len(symbols))])
+		rule.Right = append(rule.Right, symbols[r.Of(len(symbols))])
 	case 5:
 		if len(rule.Right) > 0 {
-			rule.Right[r.of(len(rule.Right))] = symbols[r.of(len(symbols))]
+			rule.Right[r.Of(len(rule.Right))] = symbols[r.Of(len(symbols))]
 		}
 	case 6:
-		rule.Weight = []float64{0.5, 1.0 / 3, 1e9, 1e-7, math.SmallestNonzeroFloat64, math.MaxFloat64, -0.1, below}[r.of(8)]
+		rule.Weight = []float64{0.5, 1.0 / 3, 1e9, 1e-7, math.SmallestNonzeroFloat64, math.MaxFloat64, -0.1, below}[r.Of(8)]
 	case 7:
-		i := r.of(len(g.Rules))
+		i := r.Of(len(g.Rules))
 		g.Rules = append(g.Rules[:i:i], g.Rules[i+1:]...)
 	case 8:
-		g.Rules = append(g.Rules, copied(*g).Rules[r.of(len(g.Rules))])
+		g.Rules = append(g.Rules, copied(*g).Rules[r.Of(len(g.Rules))])
 	case 9:
 		g.Vars = append(g.Vars, "u")
 	}
@@ -109,7 +110,7 @@ func spoil(r *roll, g *api.Grammar) {
 
 // P6.1, P6.2: right grammars, printed, are loaded as themselves; grammars that aren't right are not, as no text has them.
 func TestRightOnesAgain(t *testing.T) {
-	r := roll(5)
+	r := sample.Roll(5)
 	right, wrong := 0, 0
 	for range 20000 {
 		g := someGrammar(&r)
@@ -244,7 +245,7 @@ func ofVars(g api.Grammar) []words {
 
 // P6.1: the words of a loaded grammar's variables are those of the text's definitions, where a sign says how often an item comes.
 func TestLoadedWords(t *testing.T) {
-	r := roll(13)
+	r := sample.Roll(13)
 	fine, some := 0, 0
 	for range 1500 {
 		s := someText(&r, someNames(&r), 0)

@@ -11,63 +11,52 @@ import (
 	"accidence/gram"
 	"accidence/lex"
 	"accidence/read"
+	"accidence/sample"
 )
 
-// roll is numbers that look like chance, and are the same each time.
-type roll uint64
-
-// of is a number below n.
-func (r *roll) of(n int) int {
-	*r = *r*6364136223846793005 + 1442695040888963407
-	return int(uint64(*r) >> 33 % uint64(n))
-}
-
-// one is one of some texts.
-func (r *roll) one(texts ...string) string { return texts[r.of(len(texts))] }
-
 // someText is definitions of the names of a list, in which items are names of this list, and others now and then, quotes and brackets.
-func someText(r *roll, defined []string, strange int) string {
+func someText(r *sample.Roll, defined []string, strange int) string {
 	var b strings.Builder
 	for _, name := range defined {
 		b.WriteString(name + " = ")
 		writeAlts(r, &b, defined, strange, 0)
-		b.WriteString(r.one(";", " ;\n", "; # ' ( s\n"))
+		b.WriteString(r.One(";", " ;\n", "; # ' ( s\n"))
 	}
 	return b.String()
 }
 
-func writeAlts(r *roll, b *strings.Builder, defined []string, strange, deep int) {
-	for i := range 1 + r.of(3) {
+func writeAlts(r *sample.Roll, b *strings.Builder, defined []string, strange, deep int) {
+	for i := range 1 + r.Of(3) {
 		if i > 0 {
 			b.WriteString("| ")
 		}
-		b.WriteString(r.one("", "", "", "%2 ", "%0 ", "%-0 ", "%nan ", "%-inf ", "%1.250 "))
-		for range r.of(4) {
-			switch kind := r.of(6); {
+		b.WriteString(r.One("", "", "", "%2 ", "%0 ", "%-0 ", "%nan ", "%-inf ", "%1.250 "))
+		for range r.Of(4) {
+			switch kind := r.Of(6); {
 			case kind == 0 && deep < 3:
 				b.WriteString("( ")
 				writeAlts(r, b, defined, strange, deep+1)
 				b.WriteString(")")
-			case kind < 3 && r.of(100) < strange:
-				b.WriteString(r.one("x", "g1", "g2", "G"))
+			case kind < 3 && r.Of(100) < strange:
+				b.WriteString(r.One("x", "g1", "g2", "G"))
 			case kind < 3:
-				b.WriteString(r.one(defined...))
+				b.WriteString(r.One(defined...))
 			default:
-				b.WriteString(r.one("'a'", "'b'", "'c'", "' '", "'B'"))
+				b.WriteString(r.One("'a'", "'b'", "'c'", "' '", "'B'"))
 			}
-			b.WriteString(r.one("", "", "", "?", "*", "+") + r.one(" ", "\n"))
+			b.WriteString(r.One("", "", "", "?", "*", "+") + r.One(" ", "\n"))
 		}
 	}
 }
 
 // someNames is names to be defined, some of which new variables would have, too.
-func someNames(r *roll) []string {
+func someNames(r *sample.Roll) []string {
 	list := []string{"s", "t", "g1", "g3", "g4", "g10", "g01"}
 	for i := range list {
-		j := r.of(i + 1)
+		j := r.Of(i + 1)
 		list[i], list[j] = list[j], list[i]
 	}
-	return list[:1+r.of(4)]
+	return list[:1+r.Of(4)]
 }
 
 // fold holds a loaded grammar against definitions: each new variable against the one item of which it comes.
@@ -174,7 +163,7 @@ func folds(g api.Grammar, defs []read.Def) bool {
 
 // P6.1: whatever text is loaded, its grammar is, folded again, what was written.
 func TestLoadedIsWritten(t *testing.T) {
-	r := roll(3)
+	r := sample.Roll(3)
 	fine, fresh := 0, 0
 	for range 20000 {
 		s := someText(&r, someNames(&r), 0)
@@ -219,12 +208,12 @@ func named(s string) api.Fault {
 
 // P6.1: names that are defined twice, or not at all, at their places.
 func TestLoadNamesByWords(t *testing.T) {
-	r := roll(8)
+	r := sample.Roll(8)
 	twice, none := 0, 0
 	for range 20000 {
 		list := someNames(&r)
-		if r.of(8) == 0 {
-			list = append(list, list[r.of(len(list))])
+		if r.Of(8) == 0 {
+			list = append(list, list[r.Of(len(list))])
 		}
 		s := someText(&r, list, 10)
 		want := named(s)

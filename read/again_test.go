@@ -8,6 +8,7 @@ import (
 	"accidence/edge"
 	"accidence/lex"
 	"accidence/read"
+	"accidence/sample"
 )
 
 // written is a word that is written, and where it, and the alternative that begins with it, are told to be, or -1.
@@ -88,7 +89,7 @@ func (w *writer) item(item read.Item) {
 }
 
 // lay is the text of written words, with blanks and remarks between, and where each word of it begins.
-func lay(r *roll, words []written) (string, []int) {
+func lay(r *sample.Roll, words []written) (string, []int) {
 	var s strings.Builder
 	s.WriteString(gap(r))
 	var at []int
@@ -101,44 +102,44 @@ func lay(r *roll, words []written) (string, []int) {
 }
 
 // someDefs is definitions of whatever kind, the places of which aren't set.
-func someDefs(r *roll) []read.Def {
-	list := make([]read.Def, 1+r.of(4))
+func someDefs(r *sample.Roll) []read.Def {
+	list := make([]read.Def, 1+r.Of(4))
 	for i := range list {
 		list[i] = read.Def{Name: someName(r), Alts: someAlts(r, 0)}
 	}
 	return list
 }
 
-func someAlts(r *roll, deep int) []read.Alt {
-	list := make([]read.Alt, 1+r.of(3))
+func someAlts(r *sample.Roll, deep int) []read.Alt {
+	list := make([]read.Alt, 1+r.Of(3))
 	for i := range list {
-		text := []string{"0", "0", "0", "-0", "nan", "inf", "-inf", "1", "-2.5", "0.000001", "999999999.999999"}[r.of(11)]
+		text := []string{"0", "0", "0", "-0", "nan", "inf", "-inf", "1", "-2.5", "0.000001", "999999999.999999"}[r.Of(11)]
 		list[i].Weight, _ = edge.Read(text)
-		for range r.of(4) {
+		for range r.Of(4) {
 			list[i].Items = append(list[i].Items, someItem(r, deep))
 		}
 	}
 	return list
 }
 
-func someItem(r *roll, deep int) read.Item {
-	item := read.Item{Kind: r.of(3), Op: []byte{0, 0, '?', '*', '+'}[r.of(5)]}
-	if item.Kind == read.Group && (deep == 16 || deep > 2 && r.of(3) > 0) {
+func someItem(r *sample.Roll, deep int) read.Item {
+	item := read.Item{Kind: r.Of(3), Op: []byte{0, 0, '?', '*', '+'}[r.Of(5)]}
+	if item.Kind == read.Group && (deep == 16 || deep > 2 && r.Of(3) > 0) {
 		item.Kind = read.Term
 	}
 	switch item.Kind {
 	case read.Var:
 		item.Text = someName(r)
 	case read.Term:
-		item.Text = []string{"a", " ", "# ", "|", "%1", "0123456789abcdef", "~\"\\"}[r.of(7)]
+		item.Text = []string{"a", " ", "# ", "|", "%1", "0123456789abcdef", "~\"\\"}[r.Of(7)]
 	case read.Group:
 		item.Alts = someAlts(r, deep+1)
 	}
 	return item
 }
 
-func someName(r *roll) string {
-	return []string{"a", "b", "E", "g1", "Name_1_", "abcdefghijklmnopqrstuvwx"}[r.of(6)]
+func someName(r *sample.Roll) string {
+	return []string{"a", "b", "E", "g1", "Name_1_", "abcdefghijklmnopqrstuvwx"}[r.Of(6)]
 }
 
 // put puts in all places of definitions, in the order in which their words are written.
@@ -186,7 +187,7 @@ func (p *put) alts(list []read.Alt) {
 
 // P5.1, P5.2: whatever definitions are written are read as they are, with their places; written again, and laid otherwise, they are read as the same but for places.
 func TestWrittenAgain(t *testing.T) {
-	r := roll(11)
+	r := sample.Roll(11)
 	groups := 0
 	for range 5000 {
 		defs := someDefs(&r)

@@ -8,6 +8,7 @@ import (
 	"accidence/api"
 	"accidence/lex"
 	"accidence/read"
+	"accidence/sample"
 )
 
 // The states of a text that is gone through word by word, by what may come next.
@@ -123,30 +124,21 @@ func TestShortTexts(t *testing.T) {
 	longer(t, "e = "+strings.Repeat("(", 15), walk{begun, 15}, 5, few)
 }
 
-// roll is numbers that look like chance, and are the same each time.
-type roll uint64
-
-// of is a number below n.
-func (r *roll) of(n int) int {
-	*r = *r*6364136223846793005 + 1442695040888963407
-	return int(uint64(*r) >> 33 % uint64(n))
-}
-
 // pieces are right words; none is like another one's beginning.
 var pieces = []string{"a", "Name_1", "'x'", "'( ; |'", "%1.50", "%-0", "%nan", "%-inf", "=", ";", ";", "|", "|", "(", "(", "(", ")", ")", "?", "*", "+"}
 
 // P5.1: longer texts, right ones for the most part of the way: a word that can't come is mostly rolled again.
 func TestLongerTexts(t *testing.T) {
-	r := roll(5)
+	r := sample.Roll(5)
 	right := 0
 	for range 20000 {
 		var s strings.Builder
 		var w walk
-		for range 4 + r.of(60) {
-			text := pieces[r.of(len(pieces))]
+		for range 4 + r.Of(60) {
+			text := pieces[r.Of(len(pieces))]
 			words, _ := lex.All(text)
 			next, e := w.step(words[0])
-			if e != api.OK && r.of(200) > 0 {
+			if e != api.OK && r.Of(200) > 0 {
 				continue
 			}
 			s.WriteString(text)
@@ -167,6 +159,6 @@ func TestLongerTexts(t *testing.T) {
 }
 
 // gap is blanks and remarks that may stand between two words.
-func gap(r *roll) string {
-	return []string{" ", "\t", "\r\n", "\n\n  ", " #\n", "# ' ( % _\n", "#\xff;\r\n#\n "}[r.of(7)]
+func gap(r *sample.Roll) string {
+	return []string{" ", "\t", "\r\n", "\n\n  ", " #\n", "# ' ( % _\n", "#\xff;\r\n#\n "}[r.Of(7)]
 }
