@@ -2,6 +2,9 @@
 package sample
 
 import (
+	"slices"
+	"strconv"
+
 	"accidence/api"
 	"accidence/gram"
 )
@@ -38,6 +41,44 @@ func (r *Roll) Grammar() api.Grammar {
 			return g
 		}
 	}
+}
+
+// Great is a right grammar of up to as many variables and rules as there may be, some of which lead nowhere.
+func (r *Roll) Great() api.Grammar {
+	for {
+		g := api.Grammar{Terms: []string{"a", "b", "c", "d", "e"}[:r.Of(6)]}
+		for v := range 1 + r.Of(api.MaxVars) {
+			g.Vars = append(g.Vars, Name(v))
+		}
+		most := 1 + r.Of(4)
+		for v := range g.Vars {
+			for range 1 + r.Of(most) {
+				g.Rules = append(g.Rules, api.Rule{Left: v, Right: r.form(g), Weight: float64(r.Of(9)) / 2})
+			}
+		}
+		g.Rules = slices.CompactFunc(g.Rules, func(a, b api.Rule) bool { return a.Left == b.Left && slices.Equal(a.Right, b.Right) })
+		if gram.Right(g) {
+			return g
+		}
+	}
+}
+
+// Name is a variable's name, another one for each number.
+func Name(v int) string { return "v" + strconv.Itoa(v) }
+
+// form is symbols of a grammar, mostly few, and as many terminals as variables, if it has some.
+func (r *Roll) form(g api.Grammar) []int {
+	form := make([]int, r.Of(6))
+	if r.Of(50) == 0 {
+		form = make([]int, r.Of(api.MaxRight+1))
+	}
+	for i := range form {
+		form[i] = r.Of(len(g.Vars))
+		if len(g.Terms) > 0 && r.Of(2) == 0 {
+			form[i] = ^r.Of(len(g.Terms))
+		}
+	}
+	return form
 }
 
 // Load is the grammar of a text, which is one.
