@@ -7,6 +7,7 @@ import (
 
 	"accidence/api"
 	"accidence/gram"
+	"accidence/useful"
 )
 
 // Roll is numbers that look like chance, and are the same each time.
@@ -38,6 +39,15 @@ func (r *Roll) Grammar() api.Grammar {
 			}
 		}
 		if gram.Right(g) {
+			return g
+		}
+	}
+}
+
+// Useful is what is of use of a right grammar of up to four variables and three terminals.
+func (r *Roll) Useful() api.Grammar {
+	for {
+		if g, _, ok := useful.Reduce(r.Grammar()); ok {
 			return g
 		}
 	}
