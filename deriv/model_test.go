@@ -204,7 +204,7 @@ func TestNewMemory(t *testing.T) {
 
 // Rule 1: no call panics, whatever it is handed.
 func TestNoPanic(t *testing.T) {
-	wild := []int{math.MinInt, -65, -1, 0, 1, 64, math.MaxInt}
+	wild := sample.Wild()
 	for _, g := range []api.Grammar{{}, pairs(), {Rules: []api.Rule{{Left: -1}, {Left: math.MaxInt, Right: wild}}}} {
 		for _, s := range wild {
 			for _, rule := range wild {

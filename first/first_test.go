@@ -356,15 +356,8 @@ func TestNewMemory(t *testing.T) {
 
 // Rule 1: no call panics, whatever it is handed, and each one ends.
 func TestNoPanic(t *testing.T) {
-	wild := []int{math.MinInt, -65, -1, 0, 1, 64, math.MaxInt}
-	list := []api.Grammar{{}, {Vars: []string{"s"}}, {Rules: []api.Rule{{Left: 0}}}, sample.Load("s = s ;"), sample.Load("s = 'a' t | ; t = t 'b' ; u = u u | s ;")}
-	for _, a := range wild {
-		for _, b := range wild {
-			rules := []api.Rule{{Left: a, Right: []int{b}}, {Left: b, Right: []int{a, b}}, {Left: 0}, {Left: a}, {Left: 0, Right: []int{a, b, ^0}}}
-			list = append(list, api.Grammar{Vars: []string{"s", "t"}, Rules: rules}, api.Grammar{Vars: []string{"s", "t"}, Terms: []string{"b", "a"}, Rules: rules[:2]})
-		}
-	}
-	for _, g := range list {
+	wild := sample.Wild()
+	for _, g := range sample.Odd() {
 		for k := 1; k <= api.MaxK; k++ {
 			s, ok := first.Of(g, k, 1000)
 			if !ok {

@@ -181,53 +181,6 @@ func TestAheadAsTold(t *testing.T) {
 	}
 }
 
-// finite is what is of use of a grammar of chance whose variables lead only to those behind them.
-func finite(r *sample.Roll) api.Grammar {
-	for {
-		g := r.Grammar()
-		for _, rule := range g.Rules {
-			for i, s := range rule.Right {
-				if s >= 0 && s <= rule.Left {
-					rule.Right[i] = ^0
-					if rule.Left+1 < len(g.Vars) && r.Of(3) > 0 {
-						rule.Right[i] = rule.Left + 1
-					}
-				}
-			}
-		}
-		if !gram.Right(g) {
-			continue
-		}
-		if less, _, ok := useful.Reduce(g); ok {
-			return less
-		}
-	}
-}
-
-// forms is all forms that are derived from one, by whichever steps, of a grammar that has but so many; none, if there are too many.
-func forms(g api.Grammar, from []int) [][]int {
-	known := strs.Of(from)
-	for todo := [][]int{from}; len(todo) > 0; {
-		form := todo[len(todo)-1]
-		todo = todo[:len(todo)-1]
-		for at, s := range form {
-			if s < 0 {
-				continue
-			}
-			lo, hi := gram.Rules(g, s)
-			for _, r := range g.Rules[lo:hi] {
-				if next := slices.Concat(form[:at], r.Right, form[at+1:]); known.Add(next) {
-					todo = append(todo, next)
-				}
-			}
-		}
-		if known.Len() > 3000 {
-			return nil
-		}
-	}
-	return known.All()
-}
-
 // wordOf is the first k terminals of a form, all of which are terminals.
 func wordOf(form []int, k int) ([]int, bool) {
 	word, at := deriv.Lead(form)
@@ -239,8 +192,8 @@ func TestAllForms(t *testing.T) {
 	r := sample.Roll(53)
 	fine, some := 0, 0
 	for range 2500 {
-		g := finite(&r)
-		all := forms(g, []int{0})
+		g := r.Finite()
+		all := sample.Forms(g, []int{0})
 		if all == nil {
 			continue
 		}
@@ -257,7 +210,7 @@ func TestAllForms(t *testing.T) {
 			}
 			for v := range g.Vars {
 				begins := strs.Of()
-				for _, form := range forms(g, []int{v}) {
+				for _, form := range sample.Forms(g, []int{v}) {
 					if word, ok := wordOf(form, k); ok {
 						begins.Add(word)
 					}
@@ -288,28 +241,6 @@ func grow(r *sample.Roll, g api.Grammar) []int {
 	return form
 }
 
-// derivation is a derivation of a word from a form: by rules of chance at first, by those of shortest words then.
-func derivation(r *sample.Roll, g api.Grammar, form []int) []int {
-	_, best := useful.Cost(g)
-	var rules []int
-	todo := slices.Clone(form)
-	for free := r.Of(12); len(todo) > 0; {
-		s := todo[0]
-		todo = todo[1:]
-		if s < 0 {
-			continue
-		}
-		rule := best[s]
-		if free--; free > 0 {
-			lo, hi := gram.Rules(g, s)
-			rule = lo + r.Of(hi-lo)
-		}
-		rules = append(rules, rule)
-		todo = append(slices.Clone(g.Rules[rule].Right), todo...)
-	}
-	return rules
-}
-
 // P10.2: whatever a derivation has, at whichever place, is among what was told.
 func TestDerivations(t *testing.T) {
 	r := sample.Roll(59)
@@ -318,7 +249,7 @@ func TestDerivations(t *testing.T) {
 		g, k := r.Useful(), 1+r.Of(api.MaxK)
 		s := sets(t, g, k)
 		for range 5 {
-			rules := derivation(&r, g, []int{0})
+			rules := r.Derivation(g, []int{0})
 			all, e := deriv.Yield(g, []int{0}, rules)
 			if e != api.OK {
 				t.Fatalf("%s%v: %d", gram.Print(g), rules, e)
@@ -353,8 +284,8 @@ func TestPlacesOfForms(t *testing.T) {
 				if v < 0 {
 					continue
 				}
-				own, e := deriv.Yield(g, []int{v}, derivation(&r, g, []int{v}))
-				rest, f := deriv.Yield(g, form[at+1:], derivation(&r, g, form[at+1:]))
+				own, e := deriv.Yield(g, []int{v}, r.Derivation(g, []int{v}))
+				rest, f := deriv.Yield(g, form[at+1:], r.Derivation(g, form[at+1:]))
 				if e != api.OK || f != api.OK || !s.First[v].Has(strs.Cut(own, k)) || !s.Follow[v].Has(strs.Cut(rest, k)) {
 					t.Fatalf("%s%d: %v, %v of %d in %v", gram.Print(g), k, own, rest, v, form)
 				}

@@ -279,15 +279,8 @@ func turn[T any](list []T, x T) {
 
 // Rule 1: no call panics, whatever it is handed.
 func TestNoPanic(t *testing.T) {
-	wild := []int{math.MinInt, -65, -1, 0, 1, 64, math.MaxInt}
-	list := []api.Grammar{{}, {Vars: []string{"s"}}, {Rules: []api.Rule{{Left: 0}}}}
-	for _, a := range wild {
-		for _, b := range wild {
-			rules := []api.Rule{{Left: a, Right: []int{b}}, {Left: b, Right: []int{a, b}}, {Left: 0}, {Left: a}}
-			list = append(list, api.Grammar{Vars: []string{"s", "t"}, Rules: rules}, api.Grammar{Vars: []string{"s", "t"}, Terms: []string{"b", "a"}, Rules: rules[:2]})
-		}
-	}
-	for _, g := range list {
+	wild := sample.Wild()
+	for _, g := range sample.Odd() {
 		left.Recursive(g)
 		left.Groups(g)
 		for _, v := range wild {

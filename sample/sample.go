@@ -2,11 +2,13 @@
 package sample
 
 import (
+	"math"
 	"slices"
 	"strconv"
 
 	"accidence/api"
 	"accidence/gram"
+	"accidence/strs"
 	"accidence/useful"
 )
 
@@ -53,6 +55,29 @@ func (r *Roll) Useful() api.Grammar {
 	}
 }
 
+// Finite is what is of use of a grammar of chance whose variables lead only to those behind them.
+func (r *Roll) Finite() api.Grammar {
+	for {
+		g := r.Grammar()
+		for _, rule := range g.Rules {
+			for i, s := range rule.Right {
+				if s >= 0 && s <= rule.Left {
+					rule.Right[i] = ^0
+					if rule.Left+1 < len(g.Vars) && r.Of(3) > 0 {
+						rule.Right[i] = rule.Left + 1
+					}
+				}
+			}
+		}
+		if !gram.Right(g) {
+			continue
+		}
+		if less, _, ok := useful.Reduce(g); ok {
+			return less
+		}
+	}
+}
+
 // Great is a right grammar of up to as many variables and rules as there may be, some of which lead nowhere.
 func (r *Roll) Great() api.Grammar {
 	for {
@@ -89,6 +114,67 @@ func (r *Roll) form(g api.Grammar) []int {
 		}
 	}
 	return form
+}
+
+// Derivation is a derivation of a word from a form, of a grammar all of which is of use: by rules of chance at first, by those of shortest words then.
+func (r *Roll) Derivation(g api.Grammar, form []int) []int {
+	_, best := useful.Cost(g)
+	var rules []int
+	todo := slices.Clone(form)
+	for free := r.Of(12); len(todo) > 0; {
+		s := todo[0]
+		todo = todo[1:]
+		if s < 0 {
+			continue
+		}
+		rule := best[s]
+		if free--; free > 0 {
+			lo, hi := gram.Rules(g, s)
+			rule = lo + r.Of(hi-lo)
+		}
+		rules = append(rules, rule)
+		todo = append(slices.Clone(g.Rules[rule].Right), todo...)
+	}
+	return rules
+}
+
+// Forms is all forms that are derived from one, by whichever steps, of a grammar that has but so many; none, if there are too many.
+func Forms(g api.Grammar, from []int) [][]int {
+	known := strs.Of(from)
+	for todo := [][]int{from}; len(todo) > 0; {
+		form := todo[len(todo)-1]
+		todo = todo[:len(todo)-1]
+		for at, s := range form {
+			if s < 0 {
+				continue
+			}
+			lo, hi := gram.Rules(g, s)
+			for _, r := range g.Rules[lo:hi] {
+				if next := slices.Concat(form[:at], r.Right, form[at+1:]); known.Add(next) {
+					todo = append(todo, next)
+				}
+			}
+		}
+		if known.Len() > 3000 {
+			return nil
+		}
+	}
+	return known.All()
+}
+
+// Wild is numbers that a call may be handed, most of which number nothing.
+func Wild() []int { return []int{math.MinInt, -65, -1, 0, 1, 64, math.MaxInt} }
+
+// Odd is grammars that a call may be handed, most of which aren't right, or not all of use.
+func Odd() []api.Grammar {
+	list := []api.Grammar{{}, {Vars: []string{"s"}}, {Rules: []api.Rule{{Left: 0}}}, Load("s = s ;"), Load("s = 'a' t | ; t = t 'b' ; u = u u | s ;")}
+	for _, a := range Wild() {
+		for _, b := range Wild() {
+			rules := []api.Rule{{Left: a, Right: []int{b}}, {Left: b, Right: []int{a, b}}, {Left: 0}, {Left: a}, {Left: 0, Right: []int{a, b, ^0}}}
+			list = append(list, api.Grammar{Vars: []string{"s", "t"}, Rules: rules}, api.Grammar{Vars: []string{"s", "t"}, Rules: rules[:4]}, api.Grammar{Vars: []string{"s", "t"}, Terms: []string{"b", "a"}, Rules: rules[:2]})
+		}
+	}
+	return list
 }
 
 // Load is the grammar of a text, which is one.

@@ -194,7 +194,7 @@ func TestText(t *testing.T) {
 
 // Rule 1: no call panics, whatever is in a tree.
 func TestNoPanic(t *testing.T) {
-	wild := []int{math.MinInt, -65, -1, 0, 1, 64, math.MaxInt}
+	wild := sample.Wild()
 	for _, g := range []api.Grammar{{}, pairs(), {Rules: []api.Rule{{Left: math.MaxInt, Right: wild}, {Left: -1}}}} {
 		for _, s := range wild {
 			for _, rule := range wild {
