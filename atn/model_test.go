@@ -8,7 +8,6 @@ import (
 	"accidence/api"
 	"accidence/atn"
 	"accidence/deriv"
-	"accidence/first"
 	"accidence/gram"
 	"accidence/sample"
 	"accidence/table"
@@ -167,20 +166,6 @@ func TestClosuresOfChance(t *testing.T) {
 	}
 }
 
-// tables is the tables of a grammar, by their K.
-func tables(t *testing.T, g api.Grammar) []*table.Table {
-	t.Helper()
-	list := []*table.Table{nil}
-	for k := 1; k <= api.MaxK; k++ {
-		s, ok := first.Of(g, k, api.MaxBudget)
-		if !ok {
-			t.Fatalf("%s%d: no sets", gram.Print(g), k)
-		}
-		list = append(list, table.Of(g, s))
-	}
-	return list
-}
-
 // atEnd is those of some configurations that are at the end.
 func atEnd(list []atn.Config) []atn.Config {
 	return slices.DeleteFunc(slices.Clone(list), func(x atn.Config) bool { return x.Spot.Rule >= 0 })
@@ -220,7 +205,7 @@ func TestMeant(t *testing.T) {
 	n := 0
 	for range 2000 {
 		g := r.Useful()
-		net, made := atn.New(g), tables(t, g)
+		net, made := atn.New(g), sample.Tables(g)
 		for v := range g.Vars {
 			n += isMeant(t, g, net, made, v, net.Start(v), nil)
 		}
@@ -303,13 +288,7 @@ func TestSameAgain(t *testing.T) {
 	r := sample.Roll(167)
 	for range 500 {
 		g := r.Useful()
-		h := api.Grammar{Terms: g.Terms}
-		for v := range g.Vars {
-			h.Vars = append(h.Vars, sample.Name(v))
-		}
-		for _, rule := range g.Rules {
-			h.Rules = append(h.Rules, api.Rule{Left: rule.Left, Right: rule.Right, Weight: math.NaN()})
-		}
+		h := sample.Renamed(g)
 		n, other := atn.New(g), atn.New(h)
 		for range 4 {
 			list := some(&r, g)

@@ -7,8 +7,10 @@ import (
 	"strconv"
 
 	"accidence/api"
+	"accidence/first"
 	"accidence/gram"
 	"accidence/strs"
+	"accidence/table"
 	"accidence/useful"
 )
 
@@ -101,6 +103,18 @@ func (r *Roll) Great() api.Grammar {
 // Name is a variable's name, another one for each number.
 func Name(v int) string { return "v" + strconv.Itoa(v) }
 
+// Renamed is a grammar with other variables' names, and other weights.
+func Renamed(g api.Grammar) api.Grammar {
+	h := api.Grammar{Terms: g.Terms}
+	for v := range g.Vars {
+		h.Vars = append(h.Vars, Name(v))
+	}
+	for _, rule := range g.Rules {
+		h.Rules = append(h.Rules, api.Rule{Left: rule.Left, Right: rule.Right, Weight: math.NaN()})
+	}
+	return h
+}
+
 // form is symbols of a grammar, mostly few, and as many terminals as variables, if it has some.
 func (r *Roll) form(g api.Grammar) []int {
 	form := make([]int, r.Of(6))
@@ -160,6 +174,19 @@ func Forms(g api.Grammar, from []int) [][]int {
 		}
 	}
 	return known.All()
+}
+
+// Tables is the tables of a small grammar all of which is of use, by their K; there is none for 0.
+func Tables(g api.Grammar) []*table.Table {
+	list := []*table.Table{nil}
+	for k := 1; k <= api.MaxK; k++ {
+		s, ok := first.Of(g, k, api.MaxBudget)
+		if !ok {
+			panic("no sets: " + gram.Print(g))
+		}
+		list = append(list, table.Of(g, s))
+	}
+	return list
 }
 
 // Wild is numbers that a call may be handed, most of which number nothing.
