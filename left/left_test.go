@@ -3,7 +3,6 @@ package left_test
 import (
 	"math"
 	"slices"
-	"strconv"
 	"strings"
 	"testing"
 
@@ -152,15 +151,8 @@ func TestCheck(t *testing.T) {
 	}
 }
 
-// doubled is variables v0, v1 and so on, each of which is twice the next one, and the last of which is empty: v0 vanishes by 2^n - 1 steps.
-func doubled(n int) string {
-	var b strings.Builder
-	for v := range n - 1 {
-		next := " v" + strconv.Itoa(v+1)
-		b.WriteString("v" + strconv.Itoa(v) + " =" + next + next + " ; ")
-	}
-	return b.String() + "v" + strconv.Itoa(n-1) + " = ;"
-}
+// doubled is variables of which v0 vanishes by 2^n - 1 steps.
+func doubled(n int) string { return sample.Doubled(n, 2, "", "") }
 
 // P11.1: as many steps as a derivation may have, and one more.
 func TestMostSteps(t *testing.T) {

@@ -5,6 +5,7 @@ import (
 	"math"
 	"slices"
 	"strconv"
+	"strings"
 
 	"accidence/api"
 	"accidence/first"
@@ -102,6 +103,15 @@ func (r *Roll) Great() api.Grammar {
 
 // Name is a variable's name, another one for each number.
 func Name(v int) string { return "v" + strconv.Itoa(v) }
+
+// Doubled is the text of variables v0, v1 and so on, each of which is so many times the next one, and something, and the last of which is a text of alternatives.
+func Doubled(n, times int, and, last string) string {
+	var b strings.Builder
+	for v := range n - 1 {
+		b.WriteString(Name(v) + " =" + strings.Repeat(" "+Name(v+1), times) + and + " ; ")
+	}
+	return b.String() + Name(n-1) + " = " + last + " ;"
+}
 
 // Renamed is a grammar with other variables' names, and other weights.
 func Renamed(g api.Grammar) api.Grammar {

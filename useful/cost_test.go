@@ -3,7 +3,6 @@ package useful_test
 import (
 	"math"
 	"slices"
-	"strconv"
 	"strings"
 	"testing"
 
@@ -43,39 +42,30 @@ func TestCost(t *testing.T) {
 	}
 }
 
-// doubled is variables v0, v1 and so on, each of which is so many times the next one, and something, and the last of which is a text of alternatives.
-func doubled(n, times int, and, last string) string {
-	var b strings.Builder
-	for v := range n - 1 {
-		b.WriteString("v" + strconv.Itoa(v) + " =" + strings.Repeat(" v"+strconv.Itoa(v+1), times) + and + " ; ")
-	}
-	return b.String() + "v" + strconv.Itoa(n-1) + " = " + last + " ;"
-}
-
 // P9.1: words of Far terminals and more are too long, even if there are no numbers for how many they have.
 func TestFar(t *testing.T) {
 	// 2^30 terminals, and half of these.
-	g := sample.Load(doubled(31, 2, "", "'a'"))
+	g := sample.Load(sample.Doubled(31, 2, "", "'a'"))
 	cost, best := useful.Cost(g)
 	if cost[0] != useful.Far || best[0] != -1 || cost[1] != useful.Far/2 || best[1] != 1 || cost[30] != 1 {
 		t.Errorf("%v, %v", cost, best)
 	}
 	// One terminal less than 2^30.
-	g = sample.Load(doubled(30, 2, " 'b'", "'a'"))
+	g = sample.Load(sample.Doubled(30, 2, " 'b'", "'a'"))
 	if cost, best := useful.Cost(g); cost[0] != useful.Far-1 || best[0] != 0 || cost[1] != useful.Far/2-1 {
 		t.Errorf("%v, %v", cost, best)
 	}
 	// Those, and one more; and another way, behind.
-	g = sample.Load("s = 'b' v0 | t ; t = v0 | t 'a' ; " + doubled(30, 2, " 'b'", "'a'"))
+	g = sample.Load("s = 'b' v0 | t ; t = v0 | t 'a' ; " + sample.Doubled(30, 2, " 'b'", "'a'"))
 	if cost, best := useful.Cost(g); cost[0] != useful.Far-1 || best[0] != 1 || cost[1] != useful.Far-1 || best[1] != 2 {
 		t.Errorf("%v, %v", cost, best)
 	}
-	g = sample.Load("s = 'b' v0 | t 'a' ; t = v0 | t 'a' ; " + doubled(30, 2, " 'b'", "'a'"))
+	g = sample.Load("s = 'b' v0 | t 'a' ; t = v0 | t 'a' ; " + sample.Doubled(30, 2, " 'b'", "'a'"))
 	if cost, best := useful.Cost(g); cost[0] != useful.Far || best[0] != -1 || cost[1] != useful.Far-1 || best[1] != 2 {
 		t.Errorf("%v, %v", cost, best)
 	}
 	// 24^63 terminals: all but the last few variables are too far, but become words.
-	g = sample.Load(doubled(64, 24, "", "'a' | 'a' 'a'"))
+	g = sample.Load(sample.Doubled(64, 24, "", "'a' | 'a' 'a'"))
 	cost, best = useful.Cost(g)
 	for v, n := range cost {
 		want, rule := useful.Far, -1
@@ -90,12 +80,12 @@ func TestFar(t *testing.T) {
 		t.Error("too far, but of use")
 	}
 	// 24^7 terminals by fewer than 2^30 steps.
-	g = sample.Load(doubled(7, 24, "", strings.Repeat("'a' ", 24)+"| v0"))
+	g = sample.Load(sample.Doubled(7, 24, "", strings.Repeat("'a' ", 24)+"| v0"))
 	if cost, best := useful.Cost(g); cost[0] != useful.Far || best[0] != -1 || cost[1] != 191102976 || best[1] != 1 {
 		t.Errorf("%v, %v", cost, best)
 	}
 	// By 24^63 steps to the empty word.
-	g = sample.Load(doubled(64, 24, "", ""))
+	g = sample.Load(sample.Doubled(64, 24, "", ""))
 	cost, best = useful.Cost(g)
 	for v, n := range cost {
 		if n != 0 || best[v] != v {
@@ -133,8 +123,8 @@ func TestNoShortest(t *testing.T) {
 	}{
 		{"s = 'a' s | t | u ; t = ; u = u 'b' ; w = 'a' ;", []int{2, 4, 5, 64, math.MaxInt, -1, -2, -3, math.MinInt}},
 		{"s = s ;", []int{0, 1, -1}},
-		{doubled(31, 2, "", "'a'"), []int{0}},
-		{doubled(64, 24, "", "'a'"), []int{0, 1, 30}},
+		{sample.Doubled(31, 2, "", "'a'"), []int{0}},
+		{sample.Doubled(64, 24, "", "'a'"), []int{0, 1, 30}},
 	} {
 		for _, v := range c.list {
 			if got, ok := useful.Shortest(sample.Load(c.text), v); ok || len(got) != 0 {
@@ -148,7 +138,7 @@ func TestNoShortest(t *testing.T) {
 func TestMostSteps(t *testing.T) {
 	for _, last := range []string{"", "'a'", "'a' 'b'"} {
 		// v0 takes 4095 steps.
-		g := sample.Load("s = t ; t = v0 ; u = 'b' v0 v11 ; " + doubled(12, 2, "", last))
+		g := sample.Load("s = t ; t = v0 ; u = 'b' v0 v11 ; " + sample.Doubled(12, 2, "", last))
 		for v, want := range []int{0, 4096, 0, 4095, 2047, 1023} {
 			got, ok := useful.Shortest(g, v)
 			if ok != (want > 0) || len(got) != want {
@@ -162,12 +152,12 @@ func TestMostSteps(t *testing.T) {
 		}
 	}
 	// Far too many, of one terminal less than 2^30.
-	if got, ok := useful.Shortest(sample.Load(doubled(30, 2, " 'b'", "'a'")), 0); ok || len(got) != 0 {
+	if got, ok := useful.Shortest(sample.Load(sample.Doubled(30, 2, " 'b'", "'a'")), 0); ok || len(got) != 0 {
 		t.Errorf("%d steps, %v", len(got), ok)
 	}
 	// Of no terminal, so many that there are no numbers for them.
 	for times := 2; times <= api.MaxRight; times++ {
-		g := sample.Load(doubled(64, times, "", ""))
+		g := sample.Load(sample.Doubled(64, times, "", ""))
 		want := 1
 		for v := 63; v >= 0; v-- {
 			got, ok := useful.Shortest(g, v)
@@ -183,7 +173,7 @@ func TestMostSteps(t *testing.T) {
 
 // Of equal words the one that comes by fewer steps is taken, wherever its rules are, so that there is a derivation, if any has few enough.
 func TestFewSteps(t *testing.T) {
-	many := doubled(5, 24, "", "")
+	many := sample.Doubled(5, 24, "", "")
 	for _, text := range []string{"s = v0 | t ; t = u ; u = w ; w = x ; x = y ; y = z ; z = ; ", "s = t | v0 ; z = ; y = z ; x = y ; w = x ; u = w ; t = u ; "} {
 		g := sample.Load(text + many)
 		if got, ok := useful.Shortest(g, 0); !ok || len(got) != 7 {

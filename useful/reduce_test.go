@@ -45,7 +45,7 @@ func TestReduce(t *testing.T) {
 
 // P9.1: nothing, if the start becomes no word, whatever others become.
 func TestReduceNothing(t *testing.T) {
-	for _, text := range []string{"s = s ;", "s = 'a' s | t s ; t = 'b' ;", "s = t ; t = u 'a' ; u = t | s ; v = ;", "s = t t ; t = t ;", doubled(64, 24, "", "v0"), doubled(64, 23, " 'b'", "v63")} {
+	for _, text := range []string{"s = s ;", "s = 'a' s | t s ; t = 'b' ;", "s = t ; t = u 'a' ; u = t | s ; v = ;", "s = t t ; t = t ;", sample.Doubled(64, 24, "", "v0"), sample.Doubled(64, 23, " 'b'", "v63")} {
 		less, were, ok := useful.Reduce(sample.Load(text))
 		if ok || len(were) > 0 || len(less.Vars)+len(less.Terms)+len(less.Rules) > 0 {
 			t.Errorf("%s: %v, %v, %v", text, less, were, ok)
